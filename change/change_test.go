@@ -10,88 +10,23 @@ import (
 	"moraine/api"
 	"moraine/change"
 	"moraine/class"
+	"moraine/sample"
 	"moraine/val"
 )
 
-func numV(n int) api.Val         { return api.Val{Kind: api.Num, N: n} }
-func textV(s string) api.Val     { return api.Val{Kind: api.Text, S: s} }
-func refV(n int) api.Val         { return api.Val{Kind: api.Ref, N: n} }
-func weakV(n int) api.Val        { return api.Val{Kind: api.Weak, N: n} }
-func listV(l ...api.Val) api.Val { return api.Val{Kind: api.List, L: l} }
-
-func kind(k int) api.Type   { return api.Type{Kind: k} }
-func listOf(k int) api.Type { return api.Type{Kind: api.List, Of: k} }
-
 var (
-	numType  = kind(api.Num)
-	textType = kind(api.Text)
-	refType  = kind(api.Ref)
-	weakType = kind(api.Weak)
+	numV, textV, refV, weakV, listV = sample.Num, sample.Text, sample.Ref, sample.Weak, sample.List
+
+	kind, listOf, rightTypes = sample.Kind, sample.ListOf, sample.Types
+	field, indexed, of       = sample.Field, sample.Indexed, sample.Class
+	node, pair, whole        = sample.Node, sample.Pair, sample.Whole
+	classes, wrongClasses    = sample.Classes, sample.WrongClasses
+	fittings, fill           = sample.Fittings, sample.Fill
+
+	add, drop, rename, turn, split, index = sample.Add, sample.Drop, sample.Rename, sample.Turn, sample.Split, sample.Index
+
+	numType, textType, refType, weakType = kind(api.Num), kind(api.Text), kind(api.Ref), kind(api.Weak)
 )
-
-func field(name string, t api.Type) api.Field       { return api.Field{Name: name, Type: t} }
-func indexed(name string, t api.Type) api.Field     { return api.Field{Name: name, Type: t, Indexed: true} }
-func of(name string, fields ...api.Field) api.Class { return api.Class{Name: name, Fields: fields} }
-
-func add(name string, t api.Type, expr string) api.Change {
-	return api.Change{Kind: api.ChAdd, Name: name, Type: t, Expr: expr}
-}
-func drop(name string) api.Change { return api.Change{Kind: api.ChDrop, Field: name} }
-func rename(name, to string) api.Change {
-	return api.Change{Kind: api.ChRename, Field: name, Name: to}
-}
-func turn(name string, t api.Type, expr string) api.Change {
-	return api.Change{Kind: api.ChTurn, Field: name, Type: t, Expr: expr}
-}
-func split(name, one, more string, t api.Type, expr, other string) api.Change {
-	return api.Change{Kind: api.ChSplit, Field: name, Name: one, More: more, Type: t, Expr: expr, Other: other}
-}
-func index(name string) api.Change { return api.Change{Kind: api.ChIndex, Field: name} }
-
-// node is the class of DOC.md's first example, pair one with what expressions are of, whole one with a field of each type.
-func node() api.Class { return of("node", indexed("n", numType), field("next", refType)) }
-func pair() api.Class { return of("pair", field("n", numType), field("t", textType)) }
-func whole() api.Class {
-	return of("whole", field("n", numType), field("t", textType), field("r", refType), field("w", weakType), field("ns", listOf(api.Num)), field("ts", listOf(api.Text)), field("rs", listOf(api.Ref)), field("ws", listOf(api.Weak)))
-}
-
-// classes are right ones: with no fields, some, one less than there may be, and as many.
-func classes() []api.Class {
-	less, most, long := whole(), whole(), of(strings.Repeat("c", 20), field(strings.Repeat("f", 20), textType), field("n", numType))
-	less.Fields = slices.Delete(less.Fields, 3, 4)
-	for i := range 3 {
-		most.Fields[i].Indexed = true
-	}
-	return []api.Class{of("e"), of("a", field("n", numType)), of("b", indexed("t", textType)), of("w", field("w", weakType)), node(), pair(), less, whole(), most, long}
-}
-
-// wrongClasses are classes that are not right, each for one fault alone.
-func wrongClasses() []api.Class {
-	n := field("n", numType)
-	l := []api.Class{{}, of("", n), of("A", n), of("a b", n), of(strings.Repeat("a", 21), n), of("a", n, n), of("a", n, field("n", textType)), of("a", n, field("", numType)), of("a", n, field("N", numType)), of("a", n, field(strings.Repeat("f", 21), numType)),
-		of("a", n, field("m", api.Type{})), of("a", n, field("m", listOf(0))), of("a", n, field("m", listOf(api.List))), of("a", n, field("m", api.Type{Kind: api.Num, Of: 1})), of("a", n, indexed("m", weakType)), of("a", n, indexed("m", listOf(api.Num)))}
-	nine := whole()
-	nine.Fields = append(nine.Fields, field("m", numType))
-	return append(l, nine)
-}
-
-// fittings are values of a class, no two of one type the same; with seed 0 they say least.
-func fittings(c api.Class, seed int) []api.Val {
-	var l []api.Val
-	for i, f := range c.Fields {
-		k := seed*10 + i + 1
-		v := map[int]api.Val{api.Num: numV(k - 15), api.Text: textV(strings.Repeat("é", i) + "ab c"), api.Ref: refV(k), api.Weak: weakV(k)}
-		switch {
-		case seed == 0:
-			l = append(l, val.Zero(f.Type))
-		case f.Type.Kind != api.List:
-			l = append(l, v[f.Type.Kind])
-		default:
-			l = append(l, listV(v[f.Type.Of], v[f.Type.Of]))
-		}
-	}
-	return l
-}
 
 // check holds what is told of a change against the chapter's words, and P7.5's of what comes of it.
 func check(t *testing.T, c api.Class, ch api.Change, vals []api.Val) bool {

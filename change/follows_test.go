@@ -1,13 +1,13 @@
 package change_test
 
 import (
-	"fmt"
 	"math/rand"
 	"testing"
 
 	"moraine/api"
 	"moraine/change"
 	"moraine/class"
+	"moraine/sample"
 	"moraine/val"
 )
 
@@ -62,28 +62,6 @@ func TestBack(t *testing.T) {
 	}
 }
 
-// random is a change that is often right of a class.
-func random(r *rand.Rand, c api.Class) api.Change {
-	name := func() string {
-		if len(c.Fields) == 0 || r.Intn(6) == 0 {
-			return fmt.Sprintf("f%d", r.Intn(9))
-		}
-		return c.Fields[r.Intn(len(c.Fields))].Name
-	}
-	other := func() string { return fmt.Sprintf("f%d", r.Intn(9)) }
-	typ := rightTypes()[r.Intn(8)]
-	tells := func() string {
-		a, b := name(), name()
-		forms := [][]string{{""}, {a}, {"5", "len(" + a + ")", a + "+" + b, a + "*" + a, "-" + a, a + "=" + b}, {`"x"`, "text(" + a + ")", a + "&" + b, "left(" + a + ",2)"}}
-		if typ.Kind > api.Text || r.Intn(3) == 0 {
-			return forms[r.Intn(2)][0]
-		}
-		l := forms[typ.Kind+1]
-		return l[r.Intn(len(l))]
-	}
-	return []api.Change{add(other(), typ, tells()), add(other(), typ, ""), drop(name()), rename(name(), other()), turn(name(), typ, tells()), turn(name(), typ, tells()), split(name(), other(), other(), typ, tells(), tells()), index(name())}[r.Intn(8)]
-}
-
 // P7.5: each right change leaves a right class, and values that fit it: check holds that of each, through long runs.
 func TestRuns(t *testing.T) {
 	r := rand.New(rand.NewSource(75))
@@ -92,7 +70,7 @@ func TestRuns(t *testing.T) {
 		for seed := range 3 {
 			d, vals := c, fittings(c, seed)
 			for range 300 {
-				ch := random(r, d)
+				ch := sample.Change(r.Intn, d)
 				if !check(t, d, ch, vals) {
 					continue
 				}

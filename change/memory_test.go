@@ -18,17 +18,6 @@ func within(a, b string) bool {
 	return a != "" && at >= first && at < first+uintptr(len(b))
 }
 
-// fill writes into all lists of some values, spare room, too.
-func fill(l []api.Val) {
-	for _, v := range l {
-		fill(v.L)
-	}
-	l = l[:cap(l)]
-	for i := range l {
-		l[i] = numV(-77)
-	}
-}
-
 // each are changes of each kind that are right of the first seven fields of whole.
 func each() []api.Change {
 	return []api.Change{add("x", listOf(api.Num), "ns"), add("x", listOf(api.Num), ""), drop("n"), drop("rs"), rename("ts", "x"), turn("n", listOf(api.Text), "ts"), turn("ts", textType, "t"), split("rs", "x", "y", listOf(api.Ref), "rs", "rs"), split("t", "x", "y", listOf(api.Ref), "", "rs"), index("n"), index("r")}

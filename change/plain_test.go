@@ -20,15 +20,6 @@ var needs = map[int]string{api.ChAdd: "nte", api.ChDrop: "f", api.ChRename: "fn"
 
 var nameForm = regexp.MustCompile(`\A[a-z][a-z0-9_]{0,19}\z`)
 
-// rightTypes are all the types that DOC.md calls right.
-func rightTypes() []api.Type {
-	l := []api.Type{{Kind: 1}, {Kind: 2}, {Kind: 3}, {Kind: 4}}
-	for of := 1; of <= 4; of++ {
-		l = append(l, api.Type{Kind: 5, Of: of})
-	}
-	return l
-}
-
 // plainFormed is which changes are well formed.
 func plainFormed(ch api.Change) bool {
 	row, ok := needs[ch.Kind]

@@ -1,6 +1,7 @@
 package fresh_test
 
 import (
+	"slices"
 	"strings"
 	"testing"
 	"unsafe"
@@ -61,5 +62,69 @@ func TestSpareRoom(t *testing.T) {
 		if !val.Same(v, api.Val{}) {
 			t.Errorf("%+v stands in spare room", v)
 		}
+	}
+}
+
+// schemas are some, right and not, with spare room in all lists.
+func schemas() []api.Schema {
+	c := api.Class{Name: strings.Repeat("c", 9), Fields: make([]api.Field, 0, 9)}
+	c.Fields = append(c.Fields, api.Field{Name: "n", Type: api.Type{Kind: api.List, Of: api.Ref}, Indexed: true}, api.Field{})
+	changes := append(make([]api.Change, 0, 9), api.Change{Kind: 7, Field: "a", Name: "bc", More: "def", Type: api.Type{Kind: -1, Of: 3}, Expr: "g", Other: "hi"}, api.Change{})
+	return []api.Schema{{}, {Lines: []api.Line{}}, {Lines: append(make([]api.Line, 0, 9), api.Line{First: c, Changes: changes}, api.Line{}, api.Line{Changes: changes}, api.Line{First: c})}}
+}
+
+// sameSchema says whether two schemas are the same.
+func sameSchema(a, b api.Schema) bool {
+	return slices.EqualFunc(a.Lines, b.Lines, func(l, m api.Line) bool {
+		return l.First.Name == m.First.Name && slices.Equal(l.First.Fields, m.First.Fields) && slices.Equal(l.Changes, m.Changes)
+	})
+}
+
+// R3: a schema's copy is the same, and stays so, whatever is written into the other one, its spare room, too.
+func TestSchema(t *testing.T) {
+	for i, s := range schemas() {
+		f := fresh.Schema(s)
+		if !sameSchema(f, s) {
+			t.Errorf("%+v is not %+v", f, s)
+		}
+		for _, l := range f.Lines {
+			clear(l.First.Fields[:cap(l.First.Fields)])
+			clear(l.Changes[:cap(l.Changes)])
+		}
+		clear(f.Lines[:cap(f.Lines)])
+		if !sameSchema(s, schemas()[i]) {
+			t.Errorf("%+v shares memory with its copy", s)
+		}
+	}
+}
+
+// R3: of a schema's copy all texts are copied, too.
+func TestSchemaTexts(t *testing.T) {
+	texts := func(c api.Class, ch api.Change) []string {
+		return []string{c.Name, c.Fields[0].Name, ch.Field, ch.Name, ch.More, ch.Expr, ch.Other}
+	}
+	l := schemas()[2].Lines[0]
+	given := texts(l.First, l.Changes[0])
+	m := fresh.Schema(api.Schema{Lines: []api.Line{l}}).Lines[0]
+	for _, told := range [][]string{texts(m.First, m.Changes[0]), texts(fresh.Class(l.First), fresh.Change(l.Changes[0]))} {
+		for i, s := range told {
+			if s != given[i] || unsafe.StringData(s) == unsafe.StringData(given[i]) {
+				t.Errorf("%q is what was handed in", s)
+			}
+		}
+	}
+}
+
+// R3: values' copies are the same, and share nothing with them; none are none.
+func TestVals(t *testing.T) {
+	l := fresh.Vals(values())
+	if !val.Same(api.Val{L: l}, api.Val{L: values()}) || fresh.Vals(nil) != nil || len(fresh.Vals([]api.Val{})) != 0 {
+		t.Errorf("%+v", l)
+	}
+	given := values()
+	l = fresh.Vals(given)
+	spoil(api.Val{L: l})
+	if !val.Same(api.Val{L: given}, api.Val{L: values()}) {
+		t.Errorf("%+v shares memory with its copies", given)
 	}
 }
